@@ -1,0 +1,1 @@
+"""Latchroads: walkers who go through latches, one behind the other."""

@@ -1,0 +1,165 @@
+"""What the tests have in common: drawn values, slow readings, examples, wrong values."""
+
+import itertools
+import random
+
+from latchroads import errors
+
+U = (((1, 1), (0, 0)), ((0, 1), (1, 1)))
+
+# Of this kind's train 1000 trains come, of the other one's 1001.
+KIND_1000 = (((0, 4), (1, 3)), ((1, 1), (1, 2)), ((1, 1), (0, 3)),
+             ((1, 1), (0, 1)), ((0, 1), (0, 4)), ((1, 4), (0, 3)))
+TRAIN_1000 = (4, 4, 1, 2, 0, 0, 5, 2, 0, 3, 1, 4)
+KIND_1001 = (((2, 3), (1, 1), (2, 2)), ((2, 0), (0, 0), (1, 1)),
+             ((2, 2), (2, 0), (0, 3)), ((0, 3), (0, 3), (1, 2)))
+TRAIN_1001 = (3, 0, 0, 3, 0, 2)
+
+
+def drawn_kind(rng, settings=None, sorts=None):
+    settings = settings or rng.randint(1, 6)
+    sorts = sorts or rng.randint(1, 6)
+    return tuple(tuple((rng.randrange(settings), rng.randrange(sorts)) for _ in range(settings))
+                 for _ in range(sorts))
+
+
+def drawn_train(rng, kind, most):
+    return tuple(rng.randrange(len(kind)) for _ in range(rng.randint(0, most)))
+
+
+def drawn_road(rng, kind, most):
+    return tuple(rng.randrange(len(kind[0])) for _ in range(rng.randint(0, most)))
+
+
+def all_rows(below, many):
+    """All tuples of so many integers from 0 on below a number, ascending."""
+    return list(itertools.product(range(below), repeat=many))
+
+
+def rows_up_to(below, most):
+    """All tuples of at most so many integers, the lesser ones (as roads, and as trains) first."""
+    return [row for many in range(most + 1) for row in all_rows(below, many)]
+
+
+def slow_walker(kind, sort, road):
+    """One walker, latch by latch: the road left, and the sort as which it comes out."""
+    if not road:
+        return (), sort
+    left, behind = kind[sort][road[0]]
+    rest, out = slow_walker(kind, behind, road[1:])
+    return (left,) + rest, out
+
+
+def slow_passed(kind, train, road):
+    """Walker by walker, each through all latches as the one ahead left them."""
+    out = ()
+    for sort in train:
+        road, behind = slow_walker(kind, sort, road)
+        out += (behind,)
+    return road, out
+
+
+def slow_coming(kind, train):
+    """All trains as which a train comes out of roads, tried latch by latch until none is new."""
+    met = [train]
+    for first in met:
+        for setting in range(len(kind[0])):
+            out = slow_passed(kind, first, (setting,))[1]
+            if out not in met:
+                met.append(out)
+    return met
+
+
+def told(test, lines, names=None):
+    """Runs examples as they stand in the document, and compares what is printed."""
+    space = dict(names or {})
+    rows = [line.strip() for line in lines.strip().splitlines()]
+    while rows:
+        row = rows.pop(0)
+        test.assertTrue(row.startswith(">>> "), row)
+        source = row[4:]
+        if not rows or rows[0].startswith(">>> "):
+            exec(source, space)
+            continue
+        wanted = rows.pop(0)
+        if wanted.startswith("raises "):
+            test.assertEqual(raised(lambda: eval(source, space)), wanted[7:])
+        else:
+            test.assertEqual(repr(eval(source, space)), wanted, source)
+
+
+def raised(action):
+    """The name of the error that an action raises, with what it was made with."""
+    try:
+        value = action()
+    except errors.LatchError as error:
+        if isinstance(error, errors.TooMany):
+            return "TooMany(%r)" % error.limit
+        if isinstance(error, errors.InvalidText):
+            return "InvalidText(%r)" % error.at
+        return type(error).__name__
+    return "no error, but %r" % (value,)
+
+
+def nested(value, deep, around):
+    for _ in range(deep):
+        value = around([value])
+    return value
+
+
+BIG = 10 ** 119
+SPOILT = [True, False, None, BIG, -BIG, -1, 7, 1001, "", "0", "a|b\n", "0a" * 2000, [], [0], [[0, 0]],
+          (True,), (None,), ("0",), (-1,), (BIG,), (0, False), ([0],), ((),), ((), ()), (((),),), [()],
+          nested(0, 100, tuple), nested((), 99, tuple), nested(0, 100, list), (None,) * 1000, ["a"] * 1000,
+          (0,) * 61, (0,) * 1000, errors.LatchError("no"), errors.TooMany(6), errors.InvalidText(0)]
+
+KIND_LIKES = [0, 1, (), (0,), ((0, 0),), list(U), (list(U[0]), U[1]), (U[0], [list(pair) for pair in U[1]]),
+              U[:1], (U[0], U[1][:1]), (U[0][:1], U[1]), U + ((),), ((), ()), (U[0], 0), (0, U[1]), ("", ""),
+              (((1, 1), (0, 0)), ((0, 1), (2, 1))), (((1, 1), (0, 0)), ((0, 1), (1, 2))),
+              (((1, 1), (0, 0)), ((0, -1), (1, 1))), (((1, 1), (0, 0)), ((-1, 1), (1, 1))),
+              (((1, True), (0, 0)), ((0, 1), (1, 1))), (((True, 1), (0, 0)), ((0, 1), (1, 1))),
+              (((1, 1), (0, 0)), ((0, 1), (1, 1, 1))), (((1, 1), (0, 0)), ((0, 1), (1,))),
+              (((1, 1), (0, 0)), ((0, 1), "11")), (((1, 1), (0, 0)), ((0, 1), (1, "1"))),
+              (((0, 0),),) * 7, (((0, 0),) * 7,), (((0, 0),) * 6,) * 6 + (((0, 0),) * 7,),
+              (((1, 1), (0, 0)), ((0, 1), (1, BIG))), (((1, 1), (0, None)), ((0, 1), (1, 1)))]
+
+
+def wrong(name, least=0, most=0):
+    """The error that a wrong argument of some name raises (for U), and wrong values for it."""
+    if name in ("kind", "beside"):
+        return "InvalidKind", SPOILT + KIND_LIKES
+    if name == "train":
+        return "InvalidTrain", SPOILT + [0, 1, (2,), (0, 2), (0, 1, -1), [0, 1], "01", U, (0,) * 61, (1, True)]
+    if name == "road":
+        return "InvalidRoad", SPOILT + [0, 1, (2,), (0, 2), (0, 1, -1), [0, 1], "01", U, (1,) * 61, (1, True)]
+    if name == "setting":
+        return "InvalidSetting", SPOILT + [2, (), (0,), U]
+    if name == "sort":
+        return "InvalidSort", SPOILT + [2, (), (0,), U]
+    if name == "number":
+        values = [value for value in SPOILT if type(value) is not int]
+        more = [least - 1, -BIG] if most is None else [least - 1, most + 1, BIG, -BIG]
+        return "InvalidNumber", values + more + [(), U]
+    raise AssertionError(name)
+
+
+def check_wrong(test, function, right, wrongs):
+    """Each argument wrong alone, and any two at once, of which the leftmost tells the error."""
+    rng = random.Random(len(right))
+    for at, (name, values) in enumerate(wrongs):
+        for value in values:
+            args = list(right)
+            args[at] = value
+            test.assertEqual(raised(lambda: function(*args)), name, (function, args))
+            for behind in range(at + 1, len(right)):
+                args[behind] = rng.choice(wrongs[behind][1])
+            test.assertEqual(raised(lambda: function(*args)), name, (function, args))
+
+
+def check_new_list(test, function, *args):
+    """The list that is returned is new: changing it changes nothing that comes later."""
+    first = function(*args)
+    test.assertIs(type(first), list)
+    copy = list(first)
+    first.clear()
+    test.assertEqual(function(*args), copy)
