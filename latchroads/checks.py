@@ -1,8 +1,8 @@
 """Checks of arguments; each raises the error that the document names."""
 
 from latchroads.errors import InvalidNumber, InvalidRoad, InvalidSetting
-from latchroads.errors import InvalidSort, InvalidTrain
-from latchroads.kinds import is_index, is_integer, is_row
+from latchroads.errors import InvalidSort, InvalidTrain, UnlikeSettings
+from latchroads.kinds import check_kind, is_index, is_integer, is_row
 
 
 def check_train(kind, train):
@@ -30,6 +30,15 @@ def check_setting(kind, setting):
 
 
 def check_number(value, least, most):
-    """Raises InvalidNumber for what is no integer from the least one to the greatest one."""
-    if not is_integer(value) or not least <= value <= most:
+    """Raises InvalidNumber for what is no integer from the least one to the greatest one, if there is one."""
+    if not is_integer(value) or value < least:
         raise InvalidNumber("this is no integer in the range")
+    if most is not None and value > most:
+        raise InvalidNumber("this is no integer in the range")
+
+
+def check_beside(kind, beside):
+    """Raises InvalidKind for what is no kind, UnlikeSettings for one that is not beside the first one."""
+    check_kind(beside)
+    if len(beside[0]) != len(kind[0]):
+        raise UnlikeSettings("the kinds have unlike numbers of settings")

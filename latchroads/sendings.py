@@ -6,14 +6,14 @@ from latchroads.kinds import check_kind
 from latchroads.walks import through_road
 
 MOST_STANDINGS = 4096
-MOST_SENDINGS = 10 ** 18
 
 
 def standings_of(kind, train, road, times):
     """The unlike standings up to the one behind so many sendings, in their order.
 
-    Returned are the list of these, and the index of the one that comes again
-    behind the last one of them, or None if so many sendings do not come to one.
+    With None for the times it is gone on until one comes again. Returned are the
+    list of these standings, and the index of the one that comes again behind the
+    last one of them, or None if so many sendings do not come to one.
     """
     places = {}
     standings = []
@@ -33,7 +33,7 @@ def round_of(kind, train, road):
     check_kind(kind)
     check_train(kind, train)
     check_road(kind, road)
-    standings, beginning = standings_of(kind, train, road, MOST_SENDINGS)
+    standings, beginning = standings_of(kind, train, road, None)
     return beginning, len(standings) - beginning
 
 
@@ -42,7 +42,7 @@ def sent_again(kind, train, road, times):
     check_kind(kind)
     check_train(kind, train)
     check_road(kind, road)
-    check_number(times, 0, MOST_SENDINGS)
+    check_number(times, 0, 10 ** 18)
     standings, beginning = standings_of(kind, train, road, times)
     if beginning is None:
         return standings[times]

@@ -70,6 +70,54 @@ def slow_coming(kind, train):
     return met
 
 
+def slow_left(kind, train, road):
+    """The road as a train leaves it."""
+    return slow_passed(kind, train, road)[0]
+
+
+def left_alike(kind, train, beside, other, roads):
+    """Whether two trains leave each of some roads alike."""
+    return all(slow_left(kind, train, road) == slow_left(beside, other, road) for road in roads)
+
+
+def slow_pairs(kind, train, beside, other):
+    """All pairs that come of a pair, tried latch by latch until none is new."""
+    met = [(train, other)]
+    for first, second in met:
+        for setting in range(len(kind[0])):
+            out = (slow_passed(kind, first, (setting,))[1], slow_passed(beside, second, (setting,))[1])
+            if out not in met:
+                met.append(out)
+    return met
+
+
+def drawn_pair(rng, most_pairs, most_settings=2, most_walkers=3):
+    """Two drawn kinds, often one and the same, and trains of them of whose pair few pairs come."""
+    while True:
+        kind = drawn_kind(rng, rng.randint(1, most_settings), rng.randint(1, 3))
+        beside = kind if rng.random() < 0.5 else drawn_kind(rng, len(kind[0]), rng.randint(1, 3))
+        train, other = drawn_train(rng, kind, most_walkers), drawn_train(rng, beside, most_walkers)
+        if len(slow_pairs(kind, train, beside, other)) <= most_pairs:
+            return kind, train, beside, other
+
+
+def spun_kind(rng, kind):
+    """A kind that does the same as a drawn one: sorts stand there again, and all are named anew."""
+    rows = [list(row) for row in kind]
+    again = list(range(len(kind)))
+    while len(rows) < 6 and rng.random() < 0.7:
+        again.append(rng.randrange(len(kind)))
+        rows.append(list(kind[again[-1]]))
+    like = {sort: [at for at, first in enumerate(again) if first == sort] for sort in range(len(kind))}
+    rows = [[(left, rng.choice(like[behind])) for left, behind in row] for row in rows]
+    order = list(range(len(rows)))
+    rng.shuffle(order)
+    named = [None] * len(rows)
+    for sort, row in enumerate(rows):
+        named[order[sort]] = tuple((left, order[behind]) for left, behind in row)
+    return tuple(named)
+
+
 def told(test, lines, names=None):
     """Runs examples as they stand in the document, and compares what is printed."""
     space = dict(names or {})
@@ -128,6 +176,10 @@ def wrong(name, least=0, most=0):
     """The error that a wrong argument of some name raises (for U), and wrong values for it."""
     if name in ("kind", "beside"):
         return "InvalidKind", SPOILT + KIND_LIKES
+    if name == "unlike":
+        return "UnlikeSettings", [(((0, 0),),), (((0, 0),),) * 6, (((0, 0), (1, 0), (2, 0)),), (((5, 0),) * 6,)]
+    if name == "order":
+        return "InvalidOrder", SPOILT + [(0, 0), (1, 1), (0, 2), (1, 2), (0, 1, 2), (0,), (1,), [0, 1], (0, True), U]
     if name == "train":
         return "InvalidTrain", SPOILT + [0, 1, (2,), (0, 2), (0, 1, -1), [0, 1], "01", U, (0,) * 61, (1, True)]
     if name == "road":
@@ -151,9 +203,15 @@ def check_wrong(test, function, right, wrongs):
             args = list(right)
             args[at] = value
             test.assertEqual(raised(lambda: function(*args)), name, (function, args))
-            for behind in range(at + 1, len(right)):
+            for behind in range(at + 1, len(wrongs)):
                 args[behind] = rng.choice(wrongs[behind][1])
             test.assertEqual(raised(lambda: function(*args)), name, (function, args))
+
+
+def check_wrong_pair(test, function, right, more=()):
+    """As check_wrong, for a kind and its train, a kind beside it and its train, and more arguments."""
+    for beside in ("beside", "unlike"):
+        check_wrong(test, function, right, [wrong("kind"), wrong("train"), wrong(beside), wrong("train"), *more])
 
 
 def check_new_list(test, function, *args):

@@ -49,6 +49,13 @@ class KindsTest(unittest.TestCase):
             self.assertIs(is_train(kind, (0, value)), 0 <= value < 6)
             self.assertIs(is_road(kind, (0, value)), 0 <= value < 3)
 
+    def test_trains_and_roads_of_one(self):
+        for value in range(-1, 8):
+            self.assertIs(is_train((((0, 0), (0, 0), (1, 0)),), (value, 0)), value == 0)
+            self.assertIs(is_road((((0, 0), (0, 0), (1, 0)),), (value, 0)), 0 <= value < 3)
+            self.assertIs(is_train((((0, 0),), ((0, 1),)), (value, 0)), 0 <= value < 2)
+            self.assertIs(is_road((((0, 0),), ((0, 1),)), (value, 0)), value == 0)
+
     def test_lengths(self):
         for many in (0, 1, 59, 60, 61, 62, 1000):
             self.assertIs(is_train(U, (1,) * many), many <= 60)

@@ -1,0 +1,95 @@
+"""The latches at which two trains are apart."""
+
+from latchroads.alikes import check_pair, least_parting, pair_web
+from latchroads.checks import check_number
+
+MOST_INDEX = 400
+
+
+def steps_back(rows):
+    """For each index the list of those from which a step leads to it, as often as one does."""
+    back = [[] for _ in rows]
+    for at, row in enumerate(rows):
+        for to in row:
+            back[to].append(at)
+    return back
+
+
+def leading_to(rows, goals):
+    """For each index whether one of the goals can be come to from it, by no step or more."""
+    back = steps_back(rows)
+    leads = [at in goals for at in range(len(rows))]
+    waiting = list(goals)
+    while waiting:
+        to = waiting.pop()
+        for at in back[to]:
+            if not leads[at]:
+                leads[at] = True
+                waiting.append(at)
+    return leads
+
+
+def longest_walks(rows):
+    """For each index how many steps can be gone from it at most, None for as many as one likes."""
+    back = steps_back(rows)
+    open_steps = [len(row) for row in rows]
+    longest = [None] * len(rows)
+    ends = [at for at, row in enumerate(rows) if not row]
+    steps = 0
+    while ends:
+        ahead = []
+        for at in ends:
+            longest[at] = steps
+            for to in back[at]:
+                open_steps[to] -= 1
+                if open_steps[to] == 0:
+                    ahead.append(to)
+        ends = ahead
+        steps += 1
+    return longest
+
+
+def walks_to_parting(marks, steps):
+    """As longest_walks, for steps to where the trains can still be parted; -1 where they can not be."""
+    goals = {at: True for at, row in enumerate(marks) if True in row}
+    leads = leading_to(steps, goals)
+    longest = longest_walks([[to for to in row if leads[to]] for row in steps])
+    return [walk if lead else -1 for walk, lead in zip(longest, leads)]
+
+
+def apart_at(kind, train, beside, other, number):
+    """Whether two trains are apart at an index."""
+    check_pair(kind, train, beside, other)
+    check_number(number, 0, MOST_INDEX)
+    _, marks, steps = pair_web(kind, train, beside, other)
+    ahead = [0]
+    for _ in range(number):
+        ahead = sorted({to for at in ahead for to in steps[at]})
+    return any([True in marks[at] for at in ahead])
+
+
+def last_apart(kind, train, beside, other):
+    """The greatest index at which two trains are apart, -1 for none, None for ones as great as one likes."""
+    check_pair(kind, train, beside, other)
+    _, marks, steps = pair_web(kind, train, beside, other)
+    return walks_to_parting(marks, steps)[0]
+
+
+def pumped_road(kind, train, beside, other):
+    """Any pumped road of two trains, or None."""
+    check_pair(kind, train, beside, other)
+    pairs, marks, steps = pair_web(kind, train, beside, other)
+    walks = walks_to_parting(marks, steps)
+    if walks[0] is not None:
+        return None
+    # From where walks are without end some step leads to where they are so, too: at last in a ring.
+    met = {}
+    road = []
+    at = 0
+    while at not in met:
+        met[at] = len(road)
+        endless = [setting for setting, to in enumerate(steps[at]) if walks[to] is None]
+        road.append(endless[0])
+        at = steps[at][endless[0]]
+    tail = least_parting(kind, pairs[at][0], beside, pairs[at][1])
+    return tuple(road[:met[at]]), tuple(road[met[at]:]), tail
