@@ -1,7 +1,7 @@
 """Trains, of one kind or of two, that leave all roads alike."""
 
 from latchroads.checks import check_beside, check_train
-from latchroads.comings import road_into, web_from
+from latchroads.comings import least_marked, web_from
 from latchroads.kinds import check_kind, is_row
 from latchroads.walks import through_latch
 
@@ -33,10 +33,7 @@ def pair_web(kind, train, beside, other):
 def least_parting(kind, train, beside, other):
     """What parting_road returns, for arguments that are checked."""
     _, marks, steps = pair_web(kind, train, beside, other)
-    for at, row in enumerate(marks):
-        if True in row:
-            return road_into(steps, at) + (row.index(True),)
-    return None
+    return least_marked(marks, steps)
 
 
 def pairs_of(kind, train, beside, other):

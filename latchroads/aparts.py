@@ -2,6 +2,7 @@
 
 from latchroads.alikes import check_pair, least_parting, pair_web
 from latchroads.checks import check_number
+from latchroads.comings import reached_from
 
 MOST_INDEX = 400
 
@@ -17,16 +18,7 @@ def steps_back(rows):
 
 def leading_to(rows, goals):
     """For each index whether one of the goals can be come to from it, by no step or more."""
-    back = steps_back(rows)
-    leads = [at in goals for at in range(len(rows))]
-    waiting = list(goals)
-    while waiting:
-        to = waiting.pop()
-        for at in back[to]:
-            if not leads[at]:
-                leads[at] = True
-                waiting.append(at)
-    return leads
+    return reached_from(steps_back(rows), goals)
 
 
 def longest_walks(rows):

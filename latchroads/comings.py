@@ -53,12 +53,38 @@ def road_into(steps, index):
     return tuple(road[::-1])
 
 
+def least_marked(marks, steps):
+    """The least road whose last latch has the mark True, or None."""
+    for at, row in enumerate(marks):
+        if True in row:
+            return road_into(steps, at) + (row.index(True),)
+    return None
+
+
+def reached_from(rows, starts):
+    """For each index whether it can be come to from one of some, by no step or more."""
+    reached = [at in starts for at in range(len(rows))]
+    waiting = list(starts)
+    while waiting:
+        at = waiting.pop()
+        for to in rows[at]:
+            if not reached[to]:
+                reached[to] = True
+                waiting.append(to)
+    return reached
+
+
+def sorts_coming(kind, train):
+    """The ascending tuple of the sorts that come of a train's walkers, each by itself."""
+    come = reached_from([[behind for _, behind in row] for row in kind], train)
+    return tuple([sort for sort in range(len(kind)) if come[sort]])
+
+
 def sorts_of(kind, sort):
     """The ascending tuple of the sorts that come of a sort."""
     check_kind(kind)
     check_sort(kind, sort)
-    trains, _, _ = train_web(kind, (sort,), MOST_TRAINS)
-    return tuple(sorted([train[0] for train in trains]))
+    return sorts_coming(kind, (sort,))
 
 
 def trains_of(kind, train):

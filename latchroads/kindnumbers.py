@@ -4,12 +4,17 @@ from latchroads.checks import check_number
 from latchroads.kinds import MOST_SETTINGS, MOST_SORTS, check_kind
 
 
+def power_of(number, times):
+    """A number to the power of so many times."""
+    power = 1
+    for _ in range(times):
+        power = power * number
+    return power
+
+
 def many_kinds(settings, sorts):
     """How many kinds there are: one of all pairs for each setting of each sort."""
-    many = 1
-    for _ in range(settings * sorts):
-        many = many * (settings * sorts)
-    return many
+    return power_of(settings * sorts, settings * sorts)
 
 
 def count_kinds(settings, sorts):

@@ -24,6 +24,14 @@ def is_row(value, many):
     return all([is_index(item, many) for item in value])
 
 
+def all_rows(below, many):
+    """The list of all tuples of so many integers, each from 0 on below a number, ascending."""
+    rows = [()]
+    for _ in range(many):
+        rows = [(*row, item) for row in rows for item in range(below)]
+    return rows
+
+
 def is_pair(value, settings, sorts):
     """Whether any value is a pair of one of so many settings and one of so many sorts."""
     if not isinstance(value, tuple) or len(value) != 2:

@@ -2,19 +2,11 @@
 
 from latchroads.checks import check_number, check_train
 from latchroads.errors import TooMany
-from latchroads.kinds import check_kind
+from latchroads.kinds import all_rows, check_kind
 from latchroads.sortlikes import classes_by, lasting_marks
 from latchroads.walks import through_latch
 
 MOST_WALKERS = 4
-
-
-def trains_with(kind, many):
-    """The list of all trains of so many walkers, ascending."""
-    trains = [()]
-    for _ in range(many):
-        trains = [(*train, sort) for train in trains for sort in range(len(kind))]
-    return trains
 
 
 def train_marks(kind, trains):
@@ -36,7 +28,7 @@ def classes_of_trains(kind, many):
     check_number(many, 0, None)
     if many > MOST_WALKERS:
         raise TooMany(MOST_WALKERS)
-    trains = trains_with(kind, many)
+    trains = all_rows(len(kind), many)
     return classes_by(train_marks(kind, trains), trains)
 
 
@@ -48,6 +40,6 @@ def least_alike(kind, train):
         raise TooMany(MOST_WALKERS)
     trains = []
     for many in range(len(train) + 1):
-        trains = trains + trains_with(kind, many)
+        trains = trains + all_rows(len(kind), many)
     marks = train_marks(kind, trains)
     return trains[marks.index(marks[trains.index(train)])]

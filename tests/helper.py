@@ -118,6 +118,69 @@ def spun_kind(rng, kind):
     return tuple(named)
 
 
+def turning_kind(rng, settings, sorts):
+    """A drawn kind of which all sorts turn."""
+    return tuple(tuple(((setting + turn) % settings, rng.randrange(sorts)) for setting in range(settings))
+                 for turn in (rng.randrange(settings) for _ in range(sorts)))
+
+
+def one_to_one_kind(rng, settings, sorts):
+    """A drawn kind of which no sort leaves two settings in one."""
+    return tuple(tuple((left, rng.randrange(sorts)) for left in rng.sample(range(settings), settings))
+                 for _ in range(sorts))
+
+
+def slow_sorts(kind, train):
+    """The ascending list of the sorts that come of a train's walkers, each by itself."""
+    return sorted({come[0] for sort in train for come in slow_coming(kind, (sort,))})
+
+
+def slow_counts(kind, train, depth):
+    """The counts of a train at a depth, reckoned depth by depth by the words of [16]."""
+    settings, sorts = range(len(kind[0])), range(len(kind))
+    counts = [sum(1 for walker in train if walker == sort) % len(settings) for sort in sorts]
+    for _ in range(depth):
+        counts = [sum(counts[s] * sum(1 for setting in settings if kind[s][setting][1] == r) for s in sorts)
+                  % len(settings) for r in sorts]
+    return tuple(counts)
+
+
+def slow_sum(kind, train, depth):
+    """The sum of a turning train at a depth; the number by which a sort turns is tried out."""
+    many = len(kind[0])
+    counts = slow_counts(kind, train, depth)
+    total = 0
+    for sort in slow_sorts(kind, train):
+        turn, = [by for by in range(many) if all(kind[sort][at][0] == (at + by) % many for at in range(many))]
+        total += counts[sort] * turn
+    return total % many
+
+
+def in_common(number, settings):
+    """Whether a number has a divisor in common with that of the settings, other than 1."""
+    return any(number % divisor == 0 and settings % divisor == 0 for divisor in range(2, settings + 1))
+
+
+def slow_short(kind, train):
+    """The least depth whose sum has a divisor in common; counts come again within as many depths as there are."""
+    most = len(kind[0]) ** len(slow_sorts(kind, train))
+    return next((depth for depth in range(most) if in_common(slow_sum(kind, train, depth), len(kind[0]))), None)
+
+
+def slow_rounds(kind, train, latches):
+    """How many standings each round of roads of so many latches has, ascending; roads out of rounds are left out."""
+    many = []
+    seen = set()
+    for road in all_rows(len(kind[0]), latches):
+        standings = [road]
+        while slow_left(kind, train, standings[-1]) not in standings:
+            standings.append(slow_left(kind, train, standings[-1]))
+        if slow_left(kind, train, standings[-1]) == road and road not in seen:
+            seen.update(standings)
+            many.append(len(standings))
+    return sorted(many)
+
+
 def told(test, lines, names=None):
     """Runs examples as they stand in the document, and compares what is printed."""
     space = dict(names or {})
