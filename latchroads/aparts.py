@@ -49,6 +49,24 @@ def walks_to_parting(marks, steps):
     return [walk if lead else -1 for walk, lead in zip(longest, leads)]
 
 
+def way_into_ring(rows, walks, at):
+    """A way from an index with walks without end to a ring, and this; both are tuples of pairs (index, setting).
+
+    Rows tell, for each index, the steps (setting, index to which it leads), and
+    walks, for each index, None if there are walks without end from it.
+    """
+    # From such an index some step leads to one with such walks, too: at last in a ring.
+    met = {}
+    way = []
+    while at not in met:
+        met[at] = len(way)
+        endless = [(setting, to) for setting, to in rows[at] if walks[to] is None]
+        setting, to = endless[0]
+        way.append((at, setting))
+        at = to
+    return tuple(way[:met[at]]), tuple(way[met[at]:])
+
+
 def apart_at(kind, train, beside, other, number):
     """Whether two trains are apart at an index."""
     check_pair(kind, train, beside, other)
@@ -74,14 +92,7 @@ def pumped_road(kind, train, beside, other):
     walks = walks_to_parting(marks, steps)
     if walks[0] is not None:
         return None
-    # From where walks are without end some step leads to where they are so, too: at last in a ring.
-    met = {}
-    road = []
-    at = 0
-    while at not in met:
-        met[at] = len(road)
-        endless = [setting for setting, to in enumerate(steps[at]) if walks[to] is None]
-        road.append(endless[0])
-        at = steps[at][endless[0]]
-    tail = least_parting(kind, pairs[at][0], beside, pairs[at][1])
-    return tuple(road[:met[at]]), tuple(road[met[at]:]), tail
+    road, ring = way_into_ring([list(enumerate(row)) for row in steps], walks, 0)
+    train, other = pairs[ring[0][0]]
+    tail = least_parting(kind, train, beside, other)
+    return tuple([setting for _, setting in road]), tuple([setting for _, setting in ring]), tail

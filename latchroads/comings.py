@@ -53,6 +53,14 @@ def road_into(steps, index):
     return tuple(road[::-1])
 
 
+def place_of(states, places, state):
+    """The place of a state among those that are met; a new one comes to their end."""
+    if state not in places:
+        places[state] = len(states)
+        states.append(state)
+    return places[state]
+
+
 def least_marked(marks, steps):
     """The least road whose last latch has the mark True, or None."""
     for at, row in enumerate(marks):

@@ -7,12 +7,17 @@ from latchroads.kindsmade import joined_rows
 from latchroads.sortlikes import row_marks
 
 
+def sorts_made_one(kind, marks):
+    """The kind with the least sort of each mark alone, in whose place it is named; marks are numbered as first met."""
+    firsts = [marks.index(mark) for mark in range(len(set(marks)))]
+    return tuple([tuple([(left, marks[behind]) for left, behind in kind[sort]]) for sort in firsts])
+
+
 def least_named(kind):
     """The least kind, and what led_sorts returns, for a kind that is checked."""
     marks = row_marks(kind)
-    firsts = [marks.index(mark) for mark in range(len(set(marks)))]
     # One sort for each class is the fewest that can do the same; only their names are free.
-    fewest = tuple([tuple([(left, marks[behind]) for left, behind in kind[sort]]) for sort in firsts])
+    fewest = sorts_made_one(kind, marks)
     settings = tuple(range(len(kind[0])))
     least, order = min([(renamed(fewest, settings, names), names) for names in orders_of(len(fewest))])
     return least, tuple([order[mark] for mark in marks])

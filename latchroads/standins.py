@@ -2,7 +2,7 @@
 
 from latchroads.alikes import MOST_PAIRS
 from latchroads.checks import check_train
-from latchroads.comings import web_from
+from latchroads.comings import place_of, web_from
 from latchroads.errors import InvalidStretch, TooMany
 from latchroads.kinds import LONGEST, check_kind, is_index
 from latchroads.walks import through_latch
@@ -46,11 +46,7 @@ def rest_through(kind, known, place):
     rests, places, rows = known
     if place not in rows:
         row = [through_latch(kind, rests[place], setting) for setting in range(len(kind[0]))]
-        for _, rest in row:
-            if rest not in places:
-                places[rest] = len(rests)
-                rests.append(rest)
-        rows[place] = tuple([(left, places[rest]) for left, rest in row])
+        rows[place] = tuple([(left, place_of(rests, places, rest)) for left, rest in row])
     return rows[place]
 
 

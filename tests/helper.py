@@ -4,6 +4,7 @@ import itertools
 import random
 
 from latchroads import errors
+from latchroads.kindtexts import read_kind
 
 U = (((1, 1), (0, 0)), ((0, 1), (1, 1)))
 
@@ -14,6 +15,12 @@ TRAIN_1000 = (4, 4, 1, 2, 0, 0, 5, 2, 0, 3, 1, 4)
 KIND_1001 = (((2, 3), (1, 1), (2, 2)), ((2, 0), (0, 0), (1, 1)),
              ((2, 2), (2, 0), (0, 3)), ((0, 3), (0, 3), (1, 2)))
 TRAIN_1001 = (3, 0, 0, 3, 0, 2)
+# Of this kind's train 200 trains come, of the other one's 201.
+KIND_200 = read_kind("0b1c3a2a 1b0a3c2a 3a0c2b1a")
+TRAIN_200 = (2, 2, 1, 0, 2)
+KIND_201 = read_kind("0c2c0a 0d0a1d 0e1c1a 1c0b1b 2a0a2c")
+TRAIN_201 = (2, 2, 4, 2, 4)
+Z = (((0, 0), (1, 1)), ((0, 0), (0, 0)))
 
 
 def drawn_kind(rng, settings=None, sorts=None):
@@ -130,6 +137,53 @@ def one_to_one_kind(rng, settings, sorts):
                  for _ in range(sorts))
 
 
+def mixed_kind(rng, settings, sorts, losing=0.3):
+    """A drawn kind of which some sorts leave two settings in one."""
+    rows = zip(drawn_kind(rng, settings, sorts), one_to_one_kind(rng, settings, sorts))
+    return tuple(row if rng.random() < losing else other for row, other in rows)
+
+
+def ending_kind(rng, settings, sorts):
+    """A drawn kind whose sorts go on as later ones, and the last of which changes nothing."""
+    rows = [tuple((rng.randrange(settings), rng.randint(sort + 1, sorts - 1)) for _ in range(settings))
+            for sort in range(sorts - 1)]
+    return (*rows, tuple((setting, sorts - 1) for setting in range(settings)))
+
+
+def roads_left(kind, train, latches):
+    """The pairs of all roads of so many latches and of the roads as which a train leaves them."""
+    return [(road, slow_left(kind, train, road)) for road in all_rows(len(kind[0]), latches)]
+
+
+def slow_changes(road, left):
+    """The indices of the latches that are left in another setting."""
+    return [at for at in range(len(road)) if road[at] != left[at]]
+
+
+def slow_web(kind, train):
+    """The web of a train by the words of [21]."""
+    coming = slow_coming(kind, train)
+    web = []
+    for first in coming:
+        passings = [slow_passed(kind, first, (setting,)) for setting in range(len(kind[0]))]
+        web.append(tuple((coming.index(out), int(left != (setting,)))
+                         for setting, (left, out) in enumerate(passings)))
+    return tuple(web)
+
+
+def slow_rings(steps):
+    """All rings of a web, told by its steps {(index, setting): index}, each begun at its least index."""
+    rings = []
+    todo = [((place,), to) for place, to in steps.items()]
+    while todo:
+        way, at = todo.pop()
+        if at == way[0][0]:
+            rings.append(way)
+        elif at > way[0][0] and all(at != index for index, _ in way):
+            todo += [(way + (place,), to) for place, to in steps.items() if place[0] == at]
+    return rings
+
+
 def slow_sorts(kind, train):
     """The ascending list of the sorts that come of a train's walkers, each by itself."""
     return sorted({come[0] for sort in train for come in slow_coming(kind, (sort,))})
@@ -237,6 +291,12 @@ KIND_LIKES = [0, 1, (), (0,), ((0, 0),), list(U), (list(U[0]), U[1]), (U[0], [li
 
 def wrong(name, least=0, most=0):
     """The error that a wrong argument of some name raises (for U), and wrong values for it."""
+    if name == "side":
+        words = ["Most", "most ", "mos", "mostleast", ("most",), ["least"], "in", "out", "behind", "greatest"]
+        return "InvalidSide", SPOILT + words + ["last", "alone"]
+    if name == "count":
+        words = ["Last", "last ", "lastalone", "a", ("last",), ["alone"], "all", "none", "nowhere"]
+        return "InvalidSide", SPOILT + words + ["most", "least"]
     if name in ("kind", "beside"):
         return "InvalidKind", SPOILT + KIND_LIKES
     if name == "unlike":
