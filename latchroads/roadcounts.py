@@ -78,7 +78,7 @@ def longest_row(inner, reach):
         if row and not any([reach[one][at] and reach[at][one] for one in firsts]):
             firsts.append(at)
     # From a ring fewer rings can be come to than from each one ahead of it.
-    order = sorted([(sum([reach[at][to] for to in firsts]), at) for at in firsts])
+    order = sorted([(sum([reach[one][to] for to in firsts]), one) for one in firsts])
     rows = {}
     longest = ()
     for _, at in order:

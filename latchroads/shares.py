@@ -60,7 +60,7 @@ def share_ring_of(rows, share):
     """Any ring, with pairs (index, place of the step), that has the greatest share."""
     rest = less_share(rows, share)
     sums = greatest_sums(rest)
-    # The steps of just such rings weigh all by which the sums at their ends differ.
+    # Just the rings of that share have only steps that weigh what the sums at their ends differ by.
     tight = [[(setting, to) for setting, (to, weight) in enumerate(row) if sums[to] == sums[at] + weight]
              for at, row in enumerate(rest)]
     walks = longest_walks([[to for _, to in row] for row in tight])
