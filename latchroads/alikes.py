@@ -76,12 +76,12 @@ def is_ascending(rows):
     return all([rows[at] < rows[at + 1] for at in range(len(rows) - 1)])
 
 
-def is_closed(kind, beside, pairs):
-    """Whether no pair is unlike, and each one that comes out of one latch is there."""
+def is_closed(pairs, many, passing):
+    """Whether no pair is unlike by one of so many steps, and each one that comes of one by a step is there."""
     there = {pair: True for pair in pairs}
     for pair in pairs:
-        for setting in range(len(kind[0])):
-            unlike, out = pair_through(kind, beside, pair, setting)
+        for step in range(many):
+            unlike, out = passing(pair, step)
             if unlike or out not in there:
                 return False
     return True
@@ -95,4 +95,6 @@ def is_closed_lot(kind, beside, value):
         return False
     if not all([is_train_pair(kind, beside, pair) for pair in value]):
         return False
-    return is_ascending(value) and is_closed(kind, beside, value)
+    if not is_ascending(value):
+        return False
+    return is_closed(value, len(kind[0]), lambda pair, setting: pair_through(kind, beside, pair, setting))

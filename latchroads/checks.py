@@ -4,6 +4,9 @@ from latchroads.errors import InvalidNumber, InvalidRoad, InvalidSetting
 from latchroads.errors import InvalidSort, InvalidTrain, UnlikeSettings
 from latchroads.kinds import check_kind, is_index, is_integer, is_row
 
+FEW_WALKERS = 6
+FEW_LATCHES = 8
+
 
 def check_train(kind, train):
     """Raises InvalidTrain for what is no train of the kind."""
@@ -15,6 +18,20 @@ def check_road(kind, road):
     """Raises InvalidRoad for what is no road of the kind."""
     if not is_row(road, len(kind[0])):
         raise InvalidRoad("this is no road of the kind")
+
+
+def check_few_walkers(kind, train):
+    """Raises InvalidTrain for what is no train of the kind with few walkers."""
+    check_train(kind, train)
+    if len(train) > FEW_WALKERS:
+        raise InvalidTrain("this train has too many walkers")
+
+
+def check_few_latches(kind, road):
+    """Raises InvalidRoad for what is no road of the kind with few latches."""
+    check_road(kind, road)
+    if len(road) > FEW_LATCHES:
+        raise InvalidRoad("this road has too many latches")
 
 
 def check_sort(kind, sort):

@@ -9,7 +9,7 @@ MOST_TRAINS = 1000
 
 
 def web_from(first, settings, passing, limit):
-    """All that comes of the first one, latch by latch, as it is met.
+    """All that comes of the first one, latch by latch, as it is met; to a limit, if it is not None.
 
     `passing(state, setting)` returns a mark, and the state behind one latch.
     Returned are the lists of the states, of their marks, one for each setting,

@@ -20,7 +20,15 @@ KIND_200 = read_kind("0b1c3a2a 1b0a3c2a 3a0c2b1a")
 TRAIN_200 = (2, 2, 1, 0, 2)
 KIND_201 = read_kind("0c2c0a 0d0a1d 0e1c1a 1c0b1b 2a0a2c")
 TRAIN_201 = (2, 2, 4, 2, 4)
+# Of these trains of few walkers 1000, and 1001, trains come; of the last two the kinds leave each latch as it is.
+FEW_1000 = read_kind("0b0c 1c0d 1a1a 0c0c"), (3, 3, 2, 2, 1, 0)
+FEW_1001 = (read_kind("4e2c0b3e1c 4d2f0c3e1d 4c1d2c3f0e 4f1b3f0c2a 2f3c4b1e0f 4a3f2d0f1d"), (5, 2, 5, 4))
+STILL_1000 = (read_kind("0c1b2b3a4e 0f1b2f3b4b 0a1d2c3d4b 0d1c2d3b4d 0b1e2c3a4f 0e1f2f3b4a"), (2, 0, 4, 0, 3, 3))
+STILL_1001 = (read_kind("0b1e2c3c4c5f 0e1b2b3a4c5a 0b1f2d3a4a5e 0e1a2f3f4e5b 0a1e2b3e4a5a 0a1c2c3a4a5f"),
+              (1, 0, 4, 1, 5, 3))
 Z = (((0, 0), (1, 1)), ((0, 0), (0, 0)))
+X = (((0, 0), (1, 1)), ((0, 1), (1, 0)))
+D = (((0, 0), (0, 1)), ((1, 0), (1, 1)))
 
 
 def drawn_kind(rng, settings=None, sorts=None):
@@ -123,6 +131,56 @@ def spun_kind(rng, kind):
     for sort, row in enumerate(rows):
         named[order[sort]] = tuple((left, order[behind]) for left, behind in row)
     return tuple(named)
+
+
+def turned_by_hand(kind):
+    turned = {}
+    for sort, row in enumerate(kind):
+        for setting, (left, behind) in enumerate(row):
+            turned[setting, sort] = (behind, left)
+    return tuple(tuple(turned[setting, sort] for sort in range(len(kind))) for setting in range(len(kind[0])))
+
+
+def doubled_kind(rng, kind):
+    """A kind of which some sorts, and some settings, are alike to others."""
+    kind = turned_by_hand(spun_kind(rng, turned_by_hand(kind))) if rng.random() < 0.6 else kind
+    return spun_kind(rng, kind) if rng.random() < 0.6 else kind
+
+
+def drawn_endless(rng, kind):
+    """A drawn endless road, of which often a part of the ring, or of the head, comes again."""
+    ring = tuple(rng.randrange(len(kind[0])) for _ in range(rng.randint(1, 6)))
+    ring = ring * rng.randint(1, 12 // len(ring))
+    head = tuple(rng.randrange(len(kind[0])) for _ in range(rng.randint(0, 12)))
+    if rng.random() < 0.4:
+        head = (head[:rng.randint(0, 4)] + ring)[:12]
+    return head, ring
+
+
+def written_out(endless, latches):
+    """The first settings, so many, of an endless road."""
+    head, ring = endless
+    return (head + ring * (latches // len(ring) + 1))[:latches]
+
+
+def slow_shortest(endless):
+    """The shortest pair: the shortest head with which some ring has all settings that follow, and its shortest ring."""
+    latches = 4 * (len(endless[0]) + len(endless[1]))
+    whole = written_out(endless, latches)
+    for head in range(len(endless[0]) + 1):
+        for ring in range(1, len(endless[1]) + 1):
+            if written_out((whole[:head], whole[head:head + ring]), latches) == whole:
+                return whole[:head], whole[head:head + ring]
+    raise AssertionError(endless)
+
+
+def slow_left_long(kind, train, endless, latches):
+    """The first settings, so many, of an endless road as a train leaves it, walker by walker, latch by latch."""
+    road = list(written_out(endless, latches))
+    for sort in train:
+        for at, setting in enumerate(road):
+            road[at], sort = kind[sort][setting]
+    return tuple(road)
 
 
 def turning_kind(rng, settings, sorts):
@@ -288,6 +346,11 @@ KIND_LIKES = [0, 1, (), (0,), ((0, 0),), list(U), (list(U[0]), U[1]), (U[0], [li
               (((0, 0),),) * 7, (((0, 0),) * 7,), (((0, 0),) * 6,) * 6 + (((0, 0),) * 7,),
               (((1, 1), (0, 0)), ((0, 1), (1, BIG))), (((1, 1), (0, None)), ((0, 1), (1, 1)))]
 
+ENDLESS_LIKES = [0, ((), ()), ((0,), ()), ((0,),), ((0,), (0,), (0,)), [(), (0,)], ((), [0]), ([], (0,)), ((2,), (0,)),
+                 ((), (2,)), ((), (0, True)), ((False,), (0,)), ((0,) * 13, (0,)), ((), (0,) * 13), ((), (-1,)),
+                 ((None,), (0,)), ((), "0"), ("", (0,)), (0, (0,)), ((0,), 0), (None, (0,)), ((), None), "00",
+                 ((), (0, (0,))), ((0,) * 12, (0,) * 12, ()), (((),), (0,)), ((BIG,), (0,)), ((), (0, BIG))]
+
 
 def wrong(name, least=0, most=0):
     """The error that a wrong argument of some name raises (for U), and wrong values for it."""
@@ -307,6 +370,20 @@ def wrong(name, least=0, most=0):
         return "InvalidTrain", SPOILT + [0, 1, (2,), (0, 2), (0, 1, -1), [0, 1], "01", U, (0,) * 61, (1, True)]
     if name == "road":
         return "InvalidRoad", SPOILT + [0, 1, (2,), (0, 2), (0, 1, -1), [0, 1], "01", U, (1,) * 61, (1, True)]
+    if name == "few walkers":
+        return "InvalidTrain", wrong("train")[1] + [(0,) * 7, (0, 1) * 30]
+    if name == "few latches":
+        return "InvalidRoad", wrong("road")[1] + [(0,) * 9, (0, 1) * 30]
+    if name == "sides":
+        words = ["out", ("out",), ["out", "behind"], ("behind", "out"), ("out", "in"), ("in", "ahead"), ("in", "out"),
+                 ("ahead", "behind"), ("out", "ahead"), ("in", "behind", "out"), ("In", "behind"), ("in", b"behind"),
+                 (("in", "behind"),), ("in", "behind "), ("out", "out"), (0, "out"), "inbehind", ("i", "n")]
+        return "InvalidSides", SPOILT + words
+    if name == "endless":
+        return "InvalidEndless", SPOILT + ENDLESS_LIKES
+    if name == "reckoning kind":
+        ones = [(((0, 0),),), (((0, 1),), ((0, 0),)), (((0, 0),),) * 6]
+        return "InvalidKind", wrong("kind")[1] + ones
     if name == "setting":
         return "InvalidSetting", SPOILT + [2, (), (0,), U]
     if name == "sort":

@@ -5,10 +5,8 @@ import unittest
 
 from latchroads.kinds import is_kind
 from latchroads.turnings import is_worn, turned_kind, worn_down
-from tests.helper import (U, Z, all_rows, check_wrong, drawn_kind, drawn_road, drawn_train, slow_left, slow_passed,
-                          spun_kind, told, wrong)
-
-X = (((0, 0), (1, 1)), ((0, 1), (1, 0)))
+from tests.helper import (U, Z, all_rows, check_wrong, doubled_kind, drawn_kind, drawn_road, drawn_train, slow_left,
+                          slow_passed, told, turned_by_hand, wrong)
 
 
 def alike_sorts(kind):
@@ -43,20 +41,6 @@ def slow_down(kind):
             left = sorted(set(settings))
             kind = tuple(tuple((left.index(settings[row[at][0]]), row[at][1]) for at in left) for row in kind)
         times += 1
-
-
-def doubled_kind(rng, kind):
-    """A kind of which some sorts, and some settings, are alike to others."""
-    kind = turned_by_hand(spun_kind(rng, turned_by_hand(kind))) if rng.random() < 0.6 else kind
-    return spun_kind(rng, kind) if rng.random() < 0.6 else kind
-
-
-def turned_by_hand(kind):
-    turned = {}
-    for sort, row in enumerate(kind):
-        for setting, (left, behind) in enumerate(row):
-            turned[setting, sort] = (behind, left)
-    return tuple(tuple(turned[setting, sort] for sort in range(len(kind))) for setting in range(len(kind[0])))
 
 
 class TurningsTest(unittest.TestCase):
