@@ -8,15 +8,15 @@ from latchroads.walks import through_latch
 MOST_TRAINS = 1000
 
 
-def web_from(first, settings, passing, limit):
-    """All that comes of the first one, latch by latch, as it is met; to a limit, if it is not None.
+def web_from_all(firsts, settings, passing, limit):
+    """All that comes of some first ones, latch by latch, as it is met; to a limit, if it is not None.
 
     `passing(state, setting)` returns a mark, and the state behind one latch.
     Returned are the lists of the states, of their marks, one for each setting,
     and of the indices of the states behind one latch, one for each setting.
     """
-    met = {first: 0}
-    states = [first]
+    met = {state: place for place, state in enumerate(firsts)}
+    states = list(firsts)
     marks = []
     steps = []
     while len(steps) < len(states):
@@ -30,6 +30,11 @@ def web_from(first, settings, passing, limit):
         marks.append(tuple([mark for mark, _ in row]))
         steps.append(tuple([met[state] for _, state in row]))
     return states, marks, steps
+
+
+def web_from(first, settings, passing, limit):
+    """As web_from_all, for one first state."""
+    return web_from_all((first,), settings, passing, limit)
 
 
 def train_web(kind, train, limit):

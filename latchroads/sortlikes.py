@@ -28,6 +28,14 @@ def finer_marks(marks, leaves, steps):
     return finer
 
 
+def marks_at(leaves, steps, number):
+    """Marks that are alike for what is alike on roads of so many latches."""
+    marks = [0] * len(steps)
+    for _ in range(number):
+        marks = finer_marks(marks, leaves, steps)
+    return marks
+
+
 def lasting_marks(leaves, steps):
     """Marks that are alike for what is alike on all roads, and the least number of latches that tells them."""
     marks = [0] * len(steps)
@@ -58,10 +66,8 @@ def sort_classes(kind, most):
     """The classes of the sorts that are alike on all roads of at most so many latches."""
     check_kind(kind)
     check_number(most, 0, None)
-    marks = [0] * len(kind)
     # Roads of as many latches as there are sorts tell no more than shorter ones.
-    for _ in range(min(most, len(kind))):
-        marks = finer_marks(marks, settings_left(kind), sorts_behind(kind))
+    marks = marks_at(settings_left(kind), sorts_behind(kind), min(most, len(kind)))
     return classes_by(marks, list(range(len(kind))))
 
 

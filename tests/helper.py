@@ -1,5 +1,6 @@
 """What the tests have in common: drawn values, slow readings, examples, wrong values."""
 
+import functools
 import itertools
 import random
 
@@ -29,6 +30,7 @@ STILL_1001 = (read_kind("0b1e2c3c4c5f 0e1b2b3a4c5a 0b1f2d3a4a5e 0e1a2f3f4e5b 0a1
 Z = (((0, 0), (1, 1)), ((0, 0), (0, 0)))
 X = (((0, 0), (1, 1)), ((0, 1), (1, 0)))
 D = (((0, 0), (0, 1)), ((1, 0), (1, 1)))
+Y = (U, (1, 0), (("send", (0, 0)), ("set", 0, 1), ("join", 0), ("send", (0,))))
 
 
 def drawn_kind(rng, settings=None, sorts=None):
@@ -145,6 +147,82 @@ def doubled_kind(rng, kind):
     """A kind of which some sorts, and some settings, are alike to others."""
     kind = turned_by_hand(spun_kind(rng, turned_by_hand(kind))) if rng.random() < 0.6 else kind
     return spun_kind(rng, kind) if rng.random() < 0.6 else kind
+
+
+def drawn_lot(rng, settings, sorts, walkers, most):
+    """A drawn kind, and a lot of at most so many of its trains, some of which are often alike."""
+    kind = mixed_kind(rng, settings, sorts)
+    if rng.random() < 0.5:
+        kind = spun_kind(rng, kind)
+    lot = []
+    for _ in range(rng.randint(1, most)):
+        train = drawn_train(rng, kind, walkers)
+        if train not in lot:
+            lot.append(train)
+    return kind, tuple(lot)
+
+
+@functools.lru_cache(None)
+def slow_alike(kind, train, other):
+    """Whether two trains are alike: no pair that comes of theirs leaves a latch unlike."""
+    met = {(train, other)}
+    todo = [(train, other)]
+    while todo:
+        one, two = todo.pop()
+        for setting in range(len(kind[0])):
+            (left, out), (other_left, other_out) = (slow_passed(kind, first, (setting,)) for first in (one, two))
+            if left != other_left:
+                return False
+            if (out, other_out) not in met:
+                met.add((out, other_out))
+                todo.append((out, other_out))
+    return True
+
+
+def slow_lot_coming(kind, trains):
+    """All trains that come of some trains, in all."""
+    return {out for train in trains for out in slow_coming(kind, train)}
+
+
+def drawn_deed(rng, kind, latches):
+    """A deed that can be done when there are so many latches."""
+    words = ["send", "send"] + ["set", "cut"] * (latches > 0) + ["join", "join"] * (latches < 12)
+    word = rng.choice(words)
+    if word == "send":
+        return (word, drawn_train(rng, kind, rng.choice((2, 6))))
+    if word == "set":
+        return (word, rng.randrange(latches), rng.randrange(len(kind[0])))
+    return (word, rng.randrange(len(kind[0]))) if word == "join" else (word,)
+
+
+def drawn_log(rng, most, least=0):
+    """A drawn log of so many deeds."""
+    kind = drawn_kind(rng, rng.randint(1, 4), rng.randint(1, 4))
+    road = drawn_road(rng, kind, rng.choice((2, 5, 12)))
+    deeds = []
+    latches = len(road)
+    for _ in range(rng.randint(least, most)):
+        deeds.append(drawn_deed(rng, kind, latches))
+        latches += {"join": 1, "cut": -1}.get(deeds[-1][0], 0)
+    return kind, road, tuple(deeds)
+
+
+def slow_log_roads(log):
+    """The roads of a log, deed by deed and walker by walker."""
+    kind, road, deeds = log
+    roads = [road]
+    for word, *more in deeds:
+        road = list(roads[-1])
+        if word == "send":
+            road = slow_left(kind, more[0], tuple(road))
+        elif word == "set":
+            road[more[0]] = more[1]
+        elif word == "join":
+            road.append(more[0])
+        else:
+            del road[-1]
+        roads.append(tuple(road))
+    return roads
 
 
 def drawn_endless(rng, kind):
@@ -351,6 +429,31 @@ ENDLESS_LIKES = [0, ((), ()), ((0,), ()), ((0,),), ((0,), (0,), (0,)), [(), (0,)
                  ((None,), (0,)), ((), "0"), ("", (0,)), (0, (0,)), ((0,), 0), (None, (0,)), ((), None), "00",
                  ((), (0, (0,))), ((0,) * 12, (0,) * 12, ()), (((),), (0,)), ((BIG,), (0,)), ((), (0, BIG))]
 
+LOT_LIKES = [0, (), ((0,), (0,)), ((), ()), ((0,), (1,), (0,)), [(0,)], ([0],), ((2,),), ((0,), (2,)), ((0, True),),
+             ((0,) * 7,), ((), (0,) * 7), ((0,), 1), ((0,), None), (0,), ((0,), "1"), ((-1,),), "01", ("01",),
+             tuple((0,) * at for at in range(7)) + tuple((1,) * at for at in range(1, 7)), ((BIG,),), (((0,),),)]
+TOLD_LIKES = [0, (), ((), ()), (((), (0,)),), (((0,), ()),), (((0,), (0, 0)),), (((0,) * 9, (0,) * 9),), (((0,),),),
+              (((0,), (2,)),), (((2,), (0,)),), (((0,), (0,), (0,)),), (((0,), (0,)),) * 5, [((0,), (0,))],
+              ([(0,), (0,)],), ((([0]), (0,)),), (((0,), [0]),), (((0,), (True,)),), (((False,), (0,)),),
+              (((0,), (0,)), 0), (((0,), (0,)), None), (((0,), (-1,)),), ((0, 0),), "00", (("0", "0"),),
+              (((0,), (BIG,)),), (((0,), (0,)), ((0,), ()))]
+# Wrong logs; each but the first ones with one thing wrong in it.
+LOG_LIKES = [0, (), (U,), (U, ()), (U, (), (), ()), [U, (), ()], (U, [], ()), (U, (), []), (list(U), (), ()),
+             (None, (), ()), (U[:1], (), ()), (U, (2,), ()), (U, (True,), ()), (U, (0,) * 13, ()), (U, (0,), None),
+             (U, (0,), "cut"), (U, (0,), ("cut",)), (U, (0,), (["cut"],)), (U, (0,), ((),)), (U, (0,), (None,)),
+             (U, (0,), (("cut", 0),)), (U, (0,), (("cut",), ("cut",))), (U, (), (("cut",),)), (U, (0,), (("Cut",),)),
+             (U, (0,), (("cut ",),)), (U, (0,), (("send",),)), (U, (0,), (("send", 0),)), (U, (0,), (("send", (2,)),)),
+             (U, (0,), (("send", (0,) * 7),)), (U, (0,), (("send", [0]),)), (U, (0,), (("send", (True,)),)),
+             (U, (0,), (("send", (0,), 0),)), (U, (0,), (("set", 0),)), (U, (0,), (("set", 1, 0),)),
+             (U, (0,), (("set", -1, 0),)), (U, (0,), (("set", 0, 2),)), (U, (0,), (("set", 0, -1),)),
+             (U, (0,), (("set", False, 0),)), (U, (0,), (("set", 0, True),)), (U, (0,), (("set", 0, 0, 0),)),
+             (U, (0,), (("set", "0", 0),)), (U, (), (("set", 0, 0),)), (U, (0,), (("cut",), ("set", 0, 0))),
+             (U, (0,), (("join",),)), (U, (0,), (("join", 2),)), (U, (0,), (("join", True),)),
+             (U, (0,), (("join", (0,)),)), (U, (0,), (("join", 0, 0),)), (U, (0,) * 12, (("join", 0),)),
+             (U, (0,) * 11, (("join", 0), ("join", 0))), (U, (0,), (("send", ()),) * 31), (U, (0,), (("put", 0, 0),)),
+             (U, (0,), ((0, (0,)),)), (U, (0,), ((("send",), (0,)),)), (U, (0,), ((None,),)), (U, (0,), (("",),)),
+             ((((1, 1), (0, 0)), ((0, 1), (1, True))), (0,), ()), ((((1, False), (0, 0)), ((0, 1), (1, 1))), (0,), ())]
+
 
 def wrong(name, least=0, most=0):
     """The error that a wrong argument of some name raises (for U), and wrong values for it."""
@@ -381,6 +484,18 @@ def wrong(name, least=0, most=0):
         return "InvalidSides", SPOILT + words
     if name == "endless":
         return "InvalidEndless", SPOILT + ENDLESS_LIKES
+    if name == "lot":
+        return "InvalidLot", [value for value in SPOILT if value != ((),)] + LOT_LIKES
+    if name == "told":
+        return "InvalidTold", SPOILT + TOLD_LIKES
+    if name == "sorts":
+        values = [0, 1, (1, 0), (0, 0), (2,), (0, 2), [0, 1], "01", (0, 1, 1), (-1, 0), (0, True), (False,), (0, 1, 2)]
+        return "InvalidSorts", SPOILT + values
+    if name == "log":
+        return "InvalidLog", SPOILT + LOG_LIKES
+    if name == "index":
+        # The indices of as many latches as are told.
+        return "InvalidIndex", [value for value in SPOILT if type(value) is not int] + [-1, most, most + 1, BIG, (), U]
     if name == "reckoning kind":
         ones = [(((0, 0),),), (((0, 1),), ((0, 0),)), (((0, 0),),) * 6]
         return "InvalidKind", wrong("kind")[1] + ones

@@ -162,13 +162,27 @@ class LanguageTest(unittest.TestCase):
             if isinstance(node, ast.Raise) and node.exc is not None:
                 self.assertIn(called(node.exc), defined(TREES["errors.py"]), (name, node.lineno))
 
-    def test_no_tries_no_generators_no_decorators(self):
+    def test_no_generators_no_decorators(self):
         # The package does without these; rules for them would have to be checked one by one.
-        barred = (ast.Try, ast.With, ast.Yield, ast.YieldFrom, ast.Await, ast.NamedExpr, ast.JoinedStr,
+        barred = (ast.With, ast.Yield, ast.YieldFrom, ast.Await, ast.NamedExpr, ast.JoinedStr, ast.ExceptHandler,
                   ast.GeneratorExp, ast.Set, ast.Global, ast.Nonlocal, ast.Match, ast.Div, ast.AnnAssign)
         self.assertEqual(nodes(*barred), [])
         for name, node in nodes(ast.FunctionDef, ast.ClassDef):
-            self.assertEqual(node.decorator_list, [], (name, node.name))
+            for inner in node.decorator_list:
+                self.assertEqual([inner.id, type(node.parent)], ["property", ast.ClassDef], (name, node.name))
+                self.assertEqual([argument.arg for argument in node.args.args], ["self"], (name, node.name))
+
+    def test_finally(self):
+        # Rows of a `finally`: a test for None, and names that are assigned to attributes.
+        for name, node in nodes(ast.Try):
+            self.assertEqual(node.orelse, [], name)
+            for inner in node.finalbody:
+                self.assertIsInstance(inner, ast.If, name)
+                self.assertRegex(ast.unparse(inner.test), r"^\w+ is None$")
+                self.assertEqual(inner.orelse, [], name)
+                for row in inner.body:
+                    self.assertRegex(ast.unparse(row), r"^self\.\w+(, self\.\w+)* = \w+(, \w+)*$|"
+                                                       r"^\(?self\.\w+(, self\.\w+)*\)? = \(?\w+(, \w+)*\)?$")
 
     def test_names(self):
         classes = {name for tree in TREES.values() for name in defined(tree) if name[:1].isupper()}
@@ -235,11 +249,24 @@ class LanguageTest(unittest.TestCase):
             if isinstance(node, ast.SetComp) or called(node) == "set":
                 self.assertIn(called(node.parent), ("sorted", "len"), (name, node.lineno))
 
-    def test_classes_are_errors_without_operators(self):
+    def test_classes_without_operators(self):
         for name, node in nodes(ast.ClassDef):
-            self.assertEqual(len(node.bases), 1, (name, node.name))
+            self.assertEqual(len(node.bases), 1 if name == "errors.py" else 0, (name, node.name))
             for inner in node.body:
-                self.assertTrue(is_docstring(inner) or inner.name in DUNDERS, (name, node.name))
+                if is_docstring(inner):
+                    continue
+                self.assertIsInstance(inner, ast.FunctionDef, (name, node.name))
+                self.assertTrue(inner.name in DUNDERS or not inner.name.startswith("__"), (name, inner.name))
+                self.assertTrue(inner.name in DUNDERS or name != "errors.py", (name, inner.name))
+
+    def test_attributes_and_methods_have_unlike_names(self):
+        methods = [node.name for _, node in nodes(ast.FunctionDef) if isinstance(node.parent, ast.ClassDef)]
+        methods = [name for name in methods if name not in DUNDERS]
+        self.assertEqual(len(methods), len(set(methods)))
+        assigned = {node.attr for _, node in nodes(ast.Attribute) if isinstance(node.ctx, ast.Store)}
+        self.assertFalse(assigned & set(methods))
+        read = {node.attr for _, node in nodes(ast.Attribute) if isinstance(node.ctx, ast.Load)}
+        self.assertLessEqual(read, assigned | set(methods) | METHODS)
 
     def test_loops_leave_alone_what_they_go_over(self):
         modifying = ("append", "pop", "insert", "remove", "clear", "extend", "reverse", "setdefault", "update")
