@@ -71,12 +71,21 @@ def led_orders(kind, train):
     return sorted(met)
 
 
+def goes_with(fit, lot, sort):
+    """Whether a sort can be exchanged with all of a lot of sorts."""
+    return all([other in fit[sort] for other in lot])
+
+
+def is_whole(fit, lot):
+    """Whether no further sort can be put to a lot of sorts."""
+    return not any([sort not in lot and goes_with(fit, lot, sort) for sort in range(len(fit))])
+
+
 def exchange_lots(kind):
     """The ascending list of the ascending tuples of sorts, as great as can be, of which any two can be exchanged."""
     check_kind(kind)
     fit = exchanging_sorts(kind)
     lots = [()]
     for sort in range(len(kind)):
-        lots = lots + [(*lot, sort) for lot in lots if all([other in fit[sort] for other in lot])]
-    return sorted([lot for lot in lots if not any([sort not in lot and all([other in fit[sort] for other in lot])
-                                                   for sort in range(len(kind))])])
+        lots = lots + [(*lot, sort) for lot in lots if goes_with(fit, lot, sort)]
+    return sorted([lot for lot in lots if is_whole(fit, lot)])

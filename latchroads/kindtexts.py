@@ -27,7 +27,7 @@ def case_text(kind, train, road):
     check_road(kind, road)
     walkers = "".join([LETTERS[sort] for sort in train])
     latches = "".join([FIGURES[setting] for setting in road])
-    return END.join([kind_text(kind), walkers, latches])
+    return kind_text(kind) + END + walkers + END + latches
 
 
 def check_text(text):

@@ -89,6 +89,14 @@ def is_docstring(node):
     return isinstance(node, ast.Expr) and isinstance(node.value, ast.Constant) and isinstance(node.value.value, str)
 
 
+def within_comprehension(node, top):
+    while node is not top:
+        if isinstance(node, ast.comprehension):
+            return True
+        node = node.parent
+    return False
+
+
 def called(node):
     return node.func.id if isinstance(node, ast.Call) and isinstance(node.func, ast.Name) else None
 
@@ -248,6 +256,30 @@ class LanguageTest(unittest.TestCase):
         for name, node in nodes(ast.SetComp, ast.Call):
             if isinstance(node, ast.SetComp) or called(node) == "set":
                 self.assertIn(called(node.parent), ("sorted", "len"), (name, node.lineno))
+
+    def test_inner_names_are_new(self):
+        # The names of a comprehension, or lambda, within another one are none of those further out.
+        inner_kinds = (ast.ListComp, ast.SetComp, ast.DictComp, ast.Lambda)
+
+        def own_names(node):
+            if isinstance(node, ast.Lambda):
+                return {argument.arg for argument in node.args.args}
+            return {name.id for part in node.generators for name in ast.walk(part.target) if isinstance(name, ast.Name)}
+
+        def check(name, node, outer, within):
+            for inner in ast.iter_child_nodes(node):
+                if isinstance(inner, inner_kinds):
+                    names = own_names(inner) - {"_"}
+                    if within:
+                        self.assertFalse(names & outer, (name, inner.lineno))
+                    check(name, inner, outer | names, True)
+                else:
+                    check(name, inner, outer, within)
+
+        for name, node in nodes(ast.FunctionDef):
+            assigned = {part.id for part in ast.walk(node) if isinstance(part, ast.Name)
+                        and isinstance(part.ctx, ast.Store) and not within_comprehension(part, node)}
+            check(name, node, assigned | {argument.arg for argument in node.args.args}, False)
 
     def test_classes_without_operators(self):
         for name, node in nodes(ast.ClassDef):
