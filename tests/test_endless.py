@@ -10,7 +10,8 @@ from tests.helper import (D, ENDLESS_LIKES, FEW_1000, FEW_1001, SPOILT, STILL_10
                           slow_left_long, slow_shortest, told, wrong, written_out)
 
 LONG_HEADS = read_kind("1c0a 1d1b 0b1d 1b1c")
-# Cases with how many settings head and ring of the shortest pair left have.
+# Cases with how many settings head and ring of the shortest pair left have. Each walker makes a ring at most six times
+# as long, so its number has at most one prime of 7 and 11, and no greater one: the least above 1000 is 1008.
 LONG = [(LONG_HEADS, (3, 2, 3, 2, 2, 0), ((), (1, 0, 1, 0, 0, 1, 1, 1, 1, 1, 0, 0)), 1000, 768),
         (LONG_HEADS, (1, 3, 2, 3, 3, 0), ((), (0, 1, 0, 1, 0, 0, 1, 1, 1, 1, 1, 0)), 1001, 768),
         (read_kind("0b0b 0d0a 0c0d 0f1c 0a1a 1a1f"), (0, 5, 1), ((), (1, 0, 1, 0, 0, 1, 0, 1)), 0, 1000),
